@@ -1,0 +1,107 @@
+package arrange
+
+import "rack/api"
+
+// Parse answers the items of a text as they stand in it. If it is no arrangement: the error, and the place or the number that goes with it (P3).
+func Parse(text string) ([]Item, api.Errno, int) {
+	if len(text) > api.MaxText {
+		return nil, api.ErrLong, 0
+	}
+	items, place, formed := readAll(text)
+	if !formed {
+		return nil, api.ErrForm, place
+	}
+	twice := firstTwice(items)
+	if twice < len(items) {
+		return nil, api.ErrTwice, twice
+	}
+	lost := firstLost(items)
+	if lost < len(items) {
+		return nil, api.ErrRef, lost
+	}
+	return items, api.OK, 0
+}
+
+// Print tells the items in order, as one text (P4).
+func Print(items []Item) string {
+	sorted := inOrder(items)
+	var text []byte
+	for i := 0; i < len(sorted); i++ {
+		text = append(text, sorted[i].Text...)
+	}
+	return string(text)
+}
+
+// readAll reads items up to the text's end; if that fails, it answers false and the place of the fault.
+func readAll(text string) ([]Item, int, bool) {
+	var items []Item
+	r := &reader{text: text}
+	for r.at < len(text) {
+		if len(items) == api.MaxItems {
+			return nil, r.at, false
+		}
+		start := r.at
+		it := r.item()
+		if r.bad {
+			return nil, r.at, false
+		}
+		it.Text = text[start:r.at]
+		items = append(items, it)
+	}
+	return items, 0, true
+}
+
+// firstTwice answers the number of the first item whose key an earlier one has, or how many items there are.
+func firstTwice(items []Item) int {
+	for i := 0; i < len(items); i++ {
+		if has(items[:i], items[i].Key) {
+			return i
+		}
+	}
+	return len(items)
+}
+
+// firstLost answers the number of the first item that names what is not there, or how many items there are.
+func firstLost(items []Item) int {
+	for i := 0; i < len(items); i++ {
+		named := items[i].names()
+		if !hasAll(items, named) {
+			return i
+		}
+	}
+	return len(items)
+}
+
+// has tells whether one of the items has the key.
+func has(items []Item, key Key) bool {
+	for i := 0; i < len(items); i++ {
+		if items[i].Key.same(key) {
+			return true
+		}
+	}
+	return false
+}
+
+// hasAll tells whether each of the keys is that of an item.
+func hasAll(items []Item, keys []Key) bool {
+	for i := 0; i < len(keys); i++ {
+		if !has(items, keys[i]) {
+			return false
+		}
+	}
+	return true
+}
+
+// inOrder answers the same items in order, as a fresh list.
+func inOrder(items []Item) []Item {
+	sorted := make([]Item, len(items))
+	for i := 0; i < len(items); i++ {
+		at := i
+		for at > 0 && items[i].Key.less(sorted[at-1].Key) {
+			sorted[at] = sorted[at-1]
+			at--
+		}
+		sorted[at] = items[i]
+	}
+	return sorted
+}

@@ -1,0 +1,44 @@
+package arrange
+
+import (
+	"slices"
+	"testing"
+
+	"rack/api"
+)
+
+const text = "map x h 0 1;host x h;lun x 1 a rw;target x;disk a 4;"
+
+func TestParseTellsItems(t *testing.T) {
+	items, err, place := Parse(text)
+	want := []Item{
+		{Key: Key{Kind: Map, Name: "x", Host: "h", Number: 0}, Lun: 1, Text: "map x h 0 1;"},
+		{Key: Key{Kind: Host, Name: "x", Host: "h"}, Text: "host x h;"},
+		{Key: Key{Kind: Lun, Name: "x", Number: 1}, Disk: "a", Text: "lun x 1 a rw;"},
+		{Key: Key{Kind: Target, Name: "x"}, Text: "target x;"},
+		{Key: Key{Kind: Disk, Name: "a"}, Text: "disk a 4;"},
+	}
+	if err != api.OK || place != 0 || !slices.Equal(items, want) {
+		t.Errorf("Parse = %v, %d, %d", items, err, place)
+	}
+}
+
+func TestParseTellsNoItemsWithAnError(t *testing.T) {
+	for _, bad := range []string{string(make([]byte, 401)), text + "?", text + "disk a 1;", text + "host y h;"} {
+		if items, err, _ := Parse(bad); items != nil || err == api.OK {
+			t.Errorf("Parse(%q) = %v, %d", bad, items, err)
+		}
+	}
+}
+
+// P2: the list that is handed in stays as it was.
+func TestPrintLeavesItsList(t *testing.T) {
+	items, _, _ := Parse(text)
+	ahead := slices.Clone(items)
+	if got := Print(items); got != "disk a 4;target x;lun x 1 a rw;host x h;map x h 0 1;" {
+		t.Errorf("Print = %q", got)
+	}
+	if !slices.Equal(items, ahead) {
+		t.Errorf("Print has changed its list to %v", items)
+	}
+}
