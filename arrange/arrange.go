@@ -22,9 +22,19 @@ func Parse(text string) ([]Item, api.Errno, int) {
 	return items, api.OK, 0
 }
 
+// ParseItem reads a text that is just one item; false, if it is none.
+func ParseItem(text string) (Item, bool) {
+	r := &reader{text: text}
+	it := r.item()
+	if r.bad || r.at < len(text) {
+		return Item{}, false
+	}
+	return it, true
+}
+
 // Print tells the items in order, as one text (P4).
 func Print(items []Item) string {
-	sorted := inOrder(items)
+	sorted := InOrder(items)
 	var text []byte
 	for i := 0; i < len(sorted); i++ {
 		text = append(text, sorted[i].Text...)
@@ -40,12 +50,10 @@ func readAll(text string) ([]Item, int, bool) {
 		if len(items) == api.MaxItems {
 			return nil, r.at, false
 		}
-		start := r.at
 		it := r.item()
 		if r.bad {
 			return nil, r.at, false
 		}
-		it.Text = text[start:r.at]
 		items = append(items, it)
 	}
 	return items, 0, true
@@ -54,7 +62,7 @@ func readAll(text string) ([]Item, int, bool) {
 // firstTwice answers the number of the first item whose key an earlier one has, or how many items there are.
 func firstTwice(items []Item) int {
 	for i := 0; i < len(items); i++ {
-		if has(items[:i], items[i].Key) {
+		if Has(items[:i], items[i].Key) {
 			return i
 		}
 	}
@@ -64,16 +72,16 @@ func firstTwice(items []Item) int {
 // firstLost answers the number of the first item that names what is not there, or how many items there are.
 func firstLost(items []Item) int {
 	for i := 0; i < len(items); i++ {
-		named := items[i].names()
-		if !hasAll(items, named) {
+		named := items[i].Names()
+		if !HasAll(items, named) {
 			return i
 		}
 	}
 	return len(items)
 }
 
-// has tells whether one of the items has the key.
-func has(items []Item, key Key) bool {
+// Has tells whether one of the items has the key.
+func Has(items []Item, key Key) bool {
 	for i := 0; i < len(items); i++ {
 		if items[i].Key.same(key) {
 			return true
@@ -82,18 +90,50 @@ func has(items []Item, key Key) bool {
 	return false
 }
 
-// hasAll tells whether each of the keys is that of an item.
-func hasAll(items []Item, keys []Key) bool {
+// HasAll tells whether each of the keys is that of an item.
+func HasAll(items []Item, keys []Key) bool {
 	for i := 0; i < len(keys); i++ {
-		if !has(items, keys[i]) {
+		if !Has(items, keys[i]) {
 			return false
 		}
 	}
 	return true
 }
 
-// inOrder answers the same items in order, as a fresh list.
-func inOrder(items []Item) []Item {
+// Holds tells whether just this item is one of the items.
+func Holds(items []Item, it Item) bool {
+	for i := 0; i < len(items); i++ {
+		if items[i].Text == it.Text {
+			return true
+		}
+	}
+	return false
+}
+
+// Named tells whether one of the items names what has the key.
+func Named(items []Item, key Key) bool {
+	for i := 0; i < len(items); i++ {
+		named := items[i].Names()
+		for k := 0; k < len(named); k++ {
+			if named[k].same(key) {
+				return true
+			}
+		}
+	}
+	return false
+}
+
+// Size answers how many bytes the items have as a text.
+func Size(items []Item) int {
+	size := 0
+	for i := 0; i < len(items); i++ {
+		size += len(items[i].Text)
+	}
+	return size
+}
+
+// InOrder answers the same items in order, as a fresh list.
+func InOrder(items []Item) []Item {
 	sorted := make([]Item, len(items))
 	for i := 0; i < len(items); i++ {
 		at := i

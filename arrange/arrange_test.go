@@ -42,3 +42,15 @@ func TestPrintLeavesItsList(t *testing.T) {
 		t.Errorf("Print has changed its list to %v", items)
 	}
 }
+
+func TestParseItem(t *testing.T) {
+	it, formed := ParseItem("lun x 1 a rw;")
+	if want := (Item{Key: Key{Kind: Lun, Name: "x", Number: 1}, Disk: "a", Text: "lun x 1 a rw;"}); !formed || it != want {
+		t.Errorf("ParseItem = %v, %v", it, formed)
+	}
+	for _, bad := range []string{"", ";", "lun x 1 a rw", "lun x 1 a rw;;", "lun x 1 a rw;disk a 1;", " disk a 1;", "disk a 0;"} {
+		if it, formed := ParseItem(bad); formed || it != (Item{}) {
+			t.Errorf("ParseItem(%q) = %v, %v", bad, it, formed)
+		}
+	}
+}

@@ -45,8 +45,8 @@ func (k Key) less(other Key) bool {
 	return k.Number < other.Number
 }
 
-// names answers the keys of the items that this one names.
-func (it Item) names() []Key {
+// Names answers the keys of the items that this one names.
+func (it Item) Names() []Key {
 	switch it.Key.Kind {
 	case Lun:
 		return []Key{{Kind: Target, Name: it.Key.Name}, {Kind: Disk, Name: it.Disk}}

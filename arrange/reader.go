@@ -121,8 +121,16 @@ func (r *reader) maps() Item {
 	return Item{Key: Key{Kind: Map, Name: target, Host: host, Number: number}, Lun: lun}
 }
 
-// item reads an item of any kind: the first byte tells which.
+// item reads an item, and lays down its text.
 func (r *reader) item() Item {
+	start := r.at
+	it := r.anyKind()
+	it.Text = r.text[start:r.at]
+	return it
+}
+
+// anyKind reads an item of any kind: the first byte tells which.
+func (r *reader) anyKind() Item {
 	if r.at >= len(r.text) {
 		r.bad = true
 		return Item{}

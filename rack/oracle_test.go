@@ -7,7 +7,7 @@ import (
 	"rack/api"
 )
 
-// The oracle answers Check and Print by other means than the program: it has each shape of an item as a row of byte classes and keeps all shapes that still fit, side by side.
+// The oracle answers by other means than the program. For Check it has each shape of an item as a row of byte classes and keeps all shapes that still fit, side by side.
 
 // pattern: for each byte of an item, which bytes may stand there.
 type pattern []string
@@ -59,17 +59,38 @@ func expand(shape string) []pattern {
 	return all
 }
 
+// goodItems: the items that fitted so far, for the patterns are slow.
+var goodItems = map[string]bool{}
+
 // oracleForm tells the place of the first byte that cannot stand there, or the text's length if it ends too early; -1 if there is no fault.
 func oracleForm(text string) int {
-	items, deep := 0, 0
-	fit := patterns
-	for i := 0; i < len(text); i++ {
-		if deep == 0 && items == 24 {
-			return i
+	at := 0
+	for items := 0; at < len(text); items++ {
+		rest := text[at:]
+		if end := strings.IndexByte(rest, ';'); end >= 0 {
+			rest = rest[:end+1]
 		}
+		if items == 24 {
+			return at
+		}
+		if fault := oracleItem(rest); fault >= 0 {
+			return at + fault
+		}
+		at += len(rest)
+	}
+	return -1
+}
+
+// oracleItem tells the same of one item.
+func oracleItem(text string) int {
+	if goodItems[text] {
+		return -1
+	}
+	fit := patterns
+	for i := range len(text) {
 		var still []pattern
 		for _, p := range fit {
-			if strings.IndexByte(p[deep], text[i]) >= 0 {
+			if strings.IndexByte(p[i], text[i]) >= 0 {
 				still = append(still, p)
 			}
 		}
@@ -77,16 +98,11 @@ func oracleForm(text string) int {
 			return i
 		}
 		fit = still
-		deep++
-		if text[i] == ';' {
-			items++
-			deep = 0
-			fit = patterns
-		}
 	}
-	if deep > 0 {
+	if len(fit[0]) > len(text) {
 		return len(text)
 	}
+	goodItems[text] = true
 	return -1
 }
 
@@ -166,4 +182,93 @@ func oraclePrint(text string) (string, api.Errno) {
 		return false
 	})
 	return strings.Join(items, ""), api.OK
+}
+
+// oracleKinds: the first words of the items, as they stand in order.
+var oracleKinds = []string{"disk", "target", "lun", "host", "map"}
+
+// oracleGone: the items of from that are gone. It goes by the document's words, round by round, until no more are found.
+func oracleGone(from, to string) map[string]bool {
+	wanted := map[string]bool{}
+	for _, item := range splitItems(to) {
+		wanted[item] = true
+	}
+	gone, goneKeys := map[string]bool{}, map[string]bool{}
+	for grown := true; grown; {
+		grown = false
+		for _, item := range splitItems(from) {
+			goes := !wanted[item]
+			for _, name := range oracleNames(item) {
+				goes = goes || goneKeys[name]
+			}
+			if goes && !gone[item] {
+				gone[item], goneKeys[oracleKey(item)], grown = true, true, true
+			}
+		}
+	}
+	return gone
+}
+
+func oraclePlan(from, to string) ([]string, api.Errno) {
+	first, e := oraclePrint(from)
+	if e != api.OK {
+		return nil, e
+	}
+	second, e := oraclePrint(to)
+	if e != api.OK {
+		return nil, e
+	}
+	gone := oracleGone(from, to)
+	var steps []string
+	for i := range oracleKinds {
+		for _, item := range splitItems(first) {
+			if strings.HasPrefix(item, oracleKinds[4-i]+" ") && gone[item] {
+				steps = append(steps, "-"+item)
+			}
+		}
+	}
+	for _, item := range splitItems(second) {
+		if gone[item] || !strings.Contains(";"+from, ";"+item) {
+			steps = append(steps, "+"+item)
+		}
+	}
+	return steps, api.OK
+}
+
+// oracleStep does a step on a text: what comes out must be an arrangement again, by Check. Nothing else is asked but that the item's text is there, for a `-`.
+func oracleStep(text, step string) (string, bool) {
+	if step == "" || oracleForm(step[1:]) >= 0 || strings.Count(step, ";") != 1 {
+		return "", false
+	}
+	item := step[1:]
+	switch step[0] {
+	case '+':
+		text += item
+	case '-':
+		at := strings.Index(";"+text, ";"+item)
+		if at < 0 {
+			return "", false
+		}
+		text = text[:at] + text[at+len(item):]
+	default:
+		return "", false
+	}
+	e, _ := oracleCheck(text)
+	return text, e == api.OK
+}
+
+func oracleWalk(from string, steps []string) (string, int, api.Errno) {
+	text, e := oraclePrint(from)
+	if e != api.OK {
+		return "", 0, e
+	}
+	for i, step := range steps {
+		after, done := oracleStep(text, step)
+		if !done {
+			return "", i, api.ErrStep
+		}
+		text = after
+	}
+	text, _ = oraclePrint(text)
+	return text, len(steps), api.OK
 }

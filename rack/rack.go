@@ -4,6 +4,7 @@ package rack
 import (
 	"rack/api"
 	"rack/arrange"
+	"rack/plan"
 )
 
 // Check tells whether a text is an arrangement (P3).
@@ -22,10 +23,38 @@ func Print(text string) (string, api.Errno) {
 }
 
 // Plan tells the steps from one arrangement to another (P5).
-func Plan(from string, to string) ([]string, api.Errno) { return nil, api.OK }
+func Plan(from string, to string) ([]string, api.Errno) {
+	old, err, _ := arrange.Parse(from)
+	if err != api.OK {
+		return nil, err
+	}
+	wanted, err, _ := arrange.Parse(to)
+	if err != api.OK {
+		return nil, err
+	}
+	steps := plan.Make(old, wanted)
+	return plan.Texts(steps), api.OK
+}
 
 // Walk does steps on an arrangement (P6).
-func Walk(from string, steps []string) (string, int, api.Errno) { return "", 0, api.OK }
+func Walk(from string, steps []string) (string, int, api.Errno) {
+	items, err, _ := arrange.Parse(from)
+	if err != api.OK {
+		return "", 0, err
+	}
+	for i := 0; i < len(steps); i++ {
+		step, formed := plan.Parse(steps[i])
+		if !formed {
+			return "", i, api.ErrStep
+		}
+		after, done := step.Do(items)
+		if !done {
+			return "", i, api.ErrStep
+		}
+		items = after
+	}
+	return arrange.Print(items), len(steps), api.OK
+}
 
 // Rack is a rack that runs.
 type Rack struct{}
