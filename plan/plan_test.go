@@ -74,3 +74,29 @@ func TestDoLeavesItsList(t *testing.T) {
 		}
 	}
 }
+
+func TestOppositeUndoes(t *testing.T) {
+	for _, text := range []string{"+target y;", "-map x h 0 1;"} {
+		items := behind(read(t, one))
+		ahead := slices.Clone(items[:len(items)+2])
+		step, _ := Parse(text)
+		after := step.After(items)
+		done, fits := step.Do(items)
+		if !fits || !slices.Equal(after, done) {
+			t.Errorf("%q: After answers %v, Do %v, %v", text, after, done, fits)
+		}
+		back := step.Opposite()
+		if back.Text()[1:] != text[1:] || back.Adds == step.Adds || back.Opposite() != step {
+			t.Errorf("the opposite of %q is %q", text, back.Text())
+		}
+		if again := arrange.Print(back.After(after)); again != one {
+			t.Errorf("there and back by %q: %q", text, again)
+		}
+		for i := range after {
+			after[i] = arrange.Item{}
+		}
+		if !slices.Equal(items[:len(items)+2], ahead) {
+			t.Errorf("%q has written into its list: %v", text, items[:len(items)+2])
+		}
+	}
+}

@@ -42,41 +42,49 @@ func Texts(steps []Step) []string {
 	return texts
 }
 
-// Do answers the items behind the step, as a fresh list; false, if it cannot be done on them (P6).
-func (s Step) Do(items []arrange.Item) ([]arrange.Item, bool) {
-	if s.Adds {
-		return add(items, s.Item)
-	}
-	return remove(items, s.Item)
+// Opposite answers the step that undoes this one.
+func (s Step) Opposite() Step {
+	return Step{Adds: !s.Adds, Item: s.Item}
 }
 
-// add answers the items with one more, as a fresh list.
-func add(items []arrange.Item, it arrange.Item) ([]arrange.Item, bool) {
+// Do answers the items behind the step, as a fresh list; false, if it cannot be done on them (P6).
+func (s Step) Do(items []arrange.Item) ([]arrange.Item, bool) {
+	if !s.fits(items) {
+		return nil, false
+	}
+	return s.After(items), true
+}
+
+// fits tells whether the step can be done on the items.
+func (s Step) fits(items []arrange.Item) bool {
+	if s.Adds {
+		return canAdd(items, s.Item)
+	}
+	held := arrange.Holds(items, s.Item)
+	return held && !arrange.Named(items, s.Item.Key)
+}
+
+// canAdd tells whether there is room for the item, and for its key, and all that it names is there.
+func canAdd(items []arrange.Item, it arrange.Item) bool {
 	size := arrange.Size(items) + len(it.Text)
 	if len(items) >= api.MaxItems || size > api.MaxText {
-		return nil, false
+		return false
 	}
 	taken := arrange.Has(items, it.Key)
 	named := it.Names()
-	if taken || !arrange.HasAll(items, named) {
-		return nil, false
-	}
-	var after []arrange.Item
-	after = append(after, items...)
-	return append(after, it), true
+	return !taken && arrange.HasAll(items, named)
 }
 
-// remove answers the items without one of them, as a fresh list.
-func remove(items []arrange.Item, it arrange.Item) ([]arrange.Item, bool) {
-	held := arrange.Holds(items, it)
-	if !held || arrange.Named(items, it.Key) {
-		return nil, false
-	}
+// After answers the items behind a step that is known to fit, as those of a plan do and their opposites: a fresh list.
+func (s Step) After(items []arrange.Item) []arrange.Item {
 	var after []arrange.Item
 	for i := 0; i < len(items); i++ {
-		if items[i].Text != it.Text {
+		if items[i].Text != s.Item.Text {
 			after = append(after, items[i])
 		}
 	}
-	return after, true
+	if s.Adds {
+		after = append(after, s.Item)
+	}
+	return after
 }
