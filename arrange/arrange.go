@@ -80,14 +80,20 @@ func firstLost(items []Item) int {
 	return len(items)
 }
 
-// Has tells whether one of the items has the key.
-func Has(items []Item, key Key) bool {
+// Find answers the item that has the key; false, if none has it.
+func Find(items []Item, key Key) (Item, bool) {
 	for i := 0; i < len(items); i++ {
 		if items[i].Key.same(key) {
-			return true
+			return items[i], true
 		}
 	}
-	return false
+	return Item{}, false
+}
+
+// Has tells whether one of the items has the key.
+func Has(items []Item, key Key) bool {
+	_, found := Find(items, key)
+	return found
 }
 
 // HasAll tells whether each of the keys is that of an item.

@@ -21,7 +21,9 @@ type Key struct {
 // Item is one item of an arrangement.
 type Item struct {
 	Key  Key
+	Size int    // the blocks of a disk
 	Disk string // the disk of a lun
+	Only bool   // whether a lun is for reading alone
 	Lun  int    // the lun of a map
 	Text string // the item as it stands in the arrangement; it has just one form, so equal items have equal texts
 }

@@ -44,25 +44,31 @@ func (r *reader) name() string {
 	return r.text[start:r.at]
 }
 
-// number reads a digit 0 to 7.
-func (r *reader) number() int {
+// digit reads a digit from low to high.
+func (r *reader) digit(low byte, high byte) int {
 	place := r.at
-	r.take('0', '7')
+	r.take(low, high)
 	if r.bad {
 		return 0
 	}
 	return int(r.text[place] - '0')
 }
 
-// mode reads `ro` or `rw`.
-func (r *reader) mode() {
+// number reads a digit 0 to 7.
+func (r *reader) number() int {
+	return r.digit('0', '7')
+}
+
+// mode reads `ro` or `rw`, and tells whether it is for reading alone.
+func (r *reader) mode() bool {
 	r.word("r")
 	only := r.sees('o', 'o')
 	if only {
 		r.word("o")
-		return
+		return true
 	}
 	r.word("w")
+	return false
 }
 
 // disk reads `disk NAME SIZE;`.
@@ -70,9 +76,9 @@ func (r *reader) disk() Item {
 	r.word("disk ")
 	name := r.name()
 	r.word(" ")
-	r.take('1', '9')
+	size := r.digit('1', '9')
 	r.word(";")
-	return Item{Key: Key{Kind: Disk, Name: name}}
+	return Item{Key: Key{Kind: Disk, Name: name}, Size: size}
 }
 
 // target reads `target NAME;`.
@@ -92,9 +98,9 @@ func (r *reader) lun() Item {
 	r.word(" ")
 	disk := r.name()
 	r.word(" ")
-	r.mode()
+	only := r.mode()
 	r.word(";")
-	return Item{Key: Key{Kind: Lun, Name: target, Number: number}, Disk: disk}
+	return Item{Key: Key{Kind: Lun, Name: target, Number: number}, Disk: disk, Only: only}
 }
 
 // host reads `host TARGET HOST;`.

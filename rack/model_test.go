@@ -17,6 +17,7 @@ type model struct {
 	plan []string // of the plan under way: what is there ahead of it, and behind each of its steps
 	done int
 	dead bool
+	hall hall
 }
 
 // known: the plans so far, by their two arrangements, for the oracle is slow.
@@ -71,6 +72,7 @@ func (m *model) step(fail bool) (int, api.Errno) {
 	}
 	m.done++
 	m.now = m.plan[m.done]
+	m.hall.turn(m.plan[m.done-1], m.now)
 	if !m.busy() {
 		m.may = []string{m.now}
 	}
@@ -84,6 +86,9 @@ func (m *model) stop() api.Errno {
 	if !m.busy() {
 		return api.ErrIdle
 	}
+	for i := m.done; i > 0; i-- {
+		m.hall.turn(m.plan[i], m.plan[i-1])
+	}
 	m.now, m.plan, m.done = m.plan[0], nil, 0
 	return api.OK
 }
@@ -96,6 +101,8 @@ type drill struct {
 	m   model
 	log []string
 	met [2]int // how often an Open told, of the two that might last, the first one and the second
+
+	told [7][18]int // how often each call of hosts told each error
 }
 
 func newDrill(t *testing.T) *drill {
@@ -130,7 +137,7 @@ func (d *drill) open() {
 	if len(d.m.may) == 2 {
 		d.met[slices.Index(d.m.may, text)]++
 	}
-	d.m = model{may: []string{text}, now: text}
+	d.m = model{may: []string{text}, now: text, hall: newHall()}
 }
 
 // cut tells whether the power went in a call that answered err; if so, the rack and its model are dead.

@@ -362,6 +362,80 @@ func TestCallsThatLeaveTheDevice(t *testing.T) {
 	}
 }
 
+// openSessions: sessions at the arrangement of the document's examples, with what they can have: 0 has reserved the disk, 1 has logged out.
+func (d *drill) openSessions() {
+	d.t.Helper()
+	d.login("x", "h")
+	d.login("x", "h")
+	d.login("x", "h")
+	d.write(2, 0, 3, 9)
+	d.reserve(0, 0)
+	d.logout(1)
+}
+
+// P12: with sessions open, each of the hosts' calls answers ErrPower on a rack that has met that it has gone, behind Restore too; the rack that Open gives then has no sessions, all blocks are 0, and none is reserved.
+func TestPowerWithSessions(t *testing.T) {
+	for n := 0; ; n++ {
+		d := newDrill(t)
+		d.whole(one)
+		d.openSessions()
+		d.upTo(one+"map x h 5 1;", 0)
+		d.arm(n)
+		d.step(false)
+		if !d.m.dead {
+			d.list(0)
+			d.list(0)
+			break
+		}
+		for range 2 {
+			for s := range 4 {
+				d.login("x", "h")
+				d.list(s)
+				d.read(s, 0, 3)
+				d.write(s, 0, 3, 1)
+				d.reserve(s, 0)
+				d.release(s, 0)
+				d.logout(s)
+			}
+			wantDead(t, d.r)
+			d.dev.Restore(-1)
+		}
+		d.open()
+		wantNoSession(t, d.r, 0)
+		wantLogin(t, d.r, "x", "h", 0, api.OK)
+		wantLogin(t, d.r, "x", "h", 1, api.OK)
+		wantRead(t, d.r, 1, 0, 3, 0, api.OK)
+	}
+}
+
+// P12: with power for no call of the device, or with none at all, hosts go on as long as the rack has not met it.
+func TestHostsGoOnWithoutTheDevice(t *testing.T) {
+	for _, gone := range []bool{false, true} {
+		d := newDrill(t)
+		d.whole(one)
+		d.upTo(one+"map x h 5 1;map x h 6 1;", 1)
+		d.arm(0)
+		if gone {
+			d.dev.Flush()
+		}
+		d.openSessions()
+		d.read(0, 0, 3)
+		d.read(0, 5, 3)
+		d.list(0)
+		d.release(0, 0)
+		d.reserve(2, 5)
+		d.read(0, 0, 3)
+		d.logout(2)
+		d.read(0, 0, 3)
+		wantRead(t, d.r, 0, 0, 3, 9, api.OK)
+		if d.dev.Dead() != gone {
+			t.Errorf("P12: the device was called")
+		}
+		wantStep(t, d.r, false, 0, api.ErrPower)
+		wantDead(t, d.r)
+	}
+}
+
 // P12: the power goes, and the rack has not met it yet: Config does not look.
 func TestConfigWithoutPower(t *testing.T) {
 	d := newDrill(t)

@@ -3,17 +3,21 @@ package rack
 import (
 	"rack/api"
 	"rack/arrange"
+	"rack/drive"
 	"rack/plan"
+	"rack/session"
 	"rack/store"
 )
 
 // Rack is a rack that runs.
 type Rack struct {
-	dev   *api.Device
-	items []arrange.Item // what is there now
-	did   []plan.Step    // what the plan under way has done, to be undone if it does not come to its end
-	left  []plan.Step    // what it has still to do; none, if no plan is under way
-	dead  bool           // a call of the device has told that the power has gone
+	dev      *api.Device
+	items    []arrange.Item // what is there now
+	disks    drive.Bank     // a drive for each disk that is there now
+	sessions session.Table
+	did      []plan.Step // what the plan under way has done, to be undone if it does not come to its end
+	left     []plan.Step // what it has still to do; none, if no plan is under way
+	dead     bool        // a call of the device has told that the power has gone
 }
 
 // Open begins a rack on a device (P7).
@@ -24,7 +28,13 @@ func Open(dev *api.Device) (*Rack, api.Errno) {
 	}
 	// What racks have stored is an arrangement; from anything else no items come.
 	items, _, _ := arrange.Parse(text)
-	return &Rack{dev: dev, items: items}, api.OK
+	r := &Rack{dev: dev, items: items}
+	for i := 0; i < len(items); i++ {
+		if items[i].Key.Kind == arrange.Disk {
+			r.disks.Add(items[i].Key.Name, items[i].Size)
+		}
+	}
+	return r, api.OK
 }
 
 // Config tells the arrangement that is there (P8).
@@ -87,9 +97,24 @@ func (r *Rack) Stop() api.Errno {
 	return api.OK
 }
 
-// do does one step.
+// do does one step, with what it does to sessions, blocks and what is reserved (P14).
 func (r *Rack) do(step plan.Step) {
 	r.items = step.After(r.items)
+	key := step.Item.Key
+	switch key.Kind {
+	case arrange.Disk:
+		if step.Adds {
+			r.disks.Add(key.Name, step.Item.Size)
+		} else {
+			r.disks.Remove(key.Name)
+		}
+	case arrange.Host:
+		if !step.Adds {
+			r.endSessions(key.Name, key.Host)
+		}
+	case arrange.Map:
+		r.sessions.Tell(key.Name, key.Host)
+	}
 }
 
 // undo does the opposites of what the plan has done, the last one first, and ends the plan.
